@@ -1,9 +1,9 @@
 """Standings, and the steps from one to the next in whole numbers.
 
-A standing is a tuple (turn, ready, states, counters) with all times counted from now.
+A standing is a tuple (turn, ready, states, counters) with all times counted from now. Those that
+are passed can have lists for tuples; those that are returned are made anew of tuples.
 """
 
-from looptimes.kinds import is_list
 from looptimes.looks import look_times, takings
 from looptimes.scenes import later
 from looptimes.turns import doings
@@ -19,16 +19,9 @@ def start(program):
 
 def steps(program, standing):
     """Return all that can happen next, as triples (event, time, next standing)."""
-    standing = _as_tuples(standing)
     if len(standing[0]) == 0:
         return _look_steps(program, standing)
     return _turn_steps(program, standing)
-
-
-def _as_tuples(thing):
-    if not is_list(thing):
-        return thing
-    return tuple([_as_tuples(item) for item in thing])
 
 
 def _look_steps(program, standing):

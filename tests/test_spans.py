@@ -151,6 +151,12 @@ class TextsTest(unittest.TestCase):
                 Span.of_text(text)
             self.assertEqual(caught.exception.line, 1)
 
+    def test_no_texts(self):
+        for thing in [None, True, 1, ["1"], Span(1), {}, PROGRAM]:
+            with self.assertRaises(BadText) as caught:
+                Span.of_text(thing)
+            self.assertEqual(caught.exception.line, 1)
+
     def test_long_texts(self):
         self.assertEqual(Span.of_text("9" * 40 + "/" + "1" + "0" * 39), Span(10 ** 40 - 1, 10 ** 39))
         self.assertEqual(Span.of_text("1" + "0" * 5999), Span(10 ** 5999))

@@ -86,6 +86,10 @@ class TextsTest(unittest.TestCase):
         self.assertEqual(self.wrong_line("late 0\ncounter q 0 1\n"), 3)
         self.assertEqual(self.wrong_line("late 0\ntask a"), 2)
 
+    def test_no_texts(self):
+        for thing in [None, True, 1, [TEXT], {}, PROGRAM]:
+            self.assertEqual(self.wrong_line(thing), 1)
+
     def test_lines_of_another_form(self):
         wrong = [
             "", " ", "x", "work", "work 1", "work 1 2 3", "work 1 a", "work 01 2", "work 1  2", "work 1 2 ",
