@@ -80,7 +80,8 @@ class Scene:
 
     def stop(self, word):
         """End the running task's part of the turn."""
-        self.runner().word = word
+        actor = self.runner()
+        actor.word = word
         self.turn.pop(0)
         self._call()
 
@@ -92,7 +93,8 @@ class Scene:
 
     def _call(self):
         if len(self.turn) > 0:
-            self.runner().word = "runs"
+            actor = self.runner()
+            actor.word = "runs"
 
     def standing(self):
         """Return what the scene has become."""

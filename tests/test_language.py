@@ -61,6 +61,17 @@ class LanguageTest(unittest.TestCase):
                 if isinstance(node, ast.Compare) and isinstance(node.ops[0], (ast.Is, ast.IsNot)):
                     self.assertIsInstance(node.comparators[0], ast.Constant, name)
 
+    def test_attributes_are_assigned_through_local_names(self):
+        for name, _, tree in self.each():
+            for function in functions(tree):
+                local = {node.arg for node in ast.walk(function) if isinstance(node, ast.arg)}
+                local |= {node.id for node in ast.walk(function)
+                          if isinstance(node, ast.Name) and isinstance(node.ctx, ast.Store)}
+                for node in ast.walk(function):
+                    if isinstance(node, ast.Attribute) and not isinstance(node.ctx, ast.Load):
+                        self.assertIsInstance(node.value, ast.Name, (name, node.lineno))
+                        self.assertIn(node.value.id, local, (name, node.lineno))
+
     def test_functions(self):
         for name, _, tree in self.each():
             for node in functions(tree):
