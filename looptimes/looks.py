@@ -25,17 +25,41 @@ def takings(program, standing):
     return out
 
 
+def look_with(program, standing, items):
+    """Return the standing behind a look now at which these pairs (name, what) are taken; None if there is none."""
+    names = program.names()
+    for name, what in items:
+        numbers = [number for _, number, kind in _next_dues(standing) if names[number] == name and kind == what]
+        if len(numbers) == 0:
+            return None
+        standing = _with_taken(program, standing, numbers[0], what)
+    # Once something has been taken, the rest can be left; otherwise only if tasks were ready.
+    if not _can_end(standing, len(items) > 0 or len(standing[1]) > 0):
+        return None
+    return _begun(program, standing)
+
+
 def _take_on(program, standing, taken, can_stop, out):
     """Add all ways to go on with a look at which something has been taken."""
-    dues = [due for due in _dues(standing) if due[0] <= 0]
-    least = _least(dues)
-    if least is None or (least == 0 and can_stop):
+    if _can_end(standing, can_stop):
         out.append((taken, _begun(program, standing)))
     names = program.names()
-    for moment, number, what in dues:
-        if moment == least:
-            after = _with_taken(program, standing, number, what)
-            _take_on(program, after, [*taken, (names[number], what)], True, out)
+    for _, number, what in _next_dues(standing):
+        after = _with_taken(program, standing, number, what)
+        _take_on(program, after, [*taken, (names[number], what)], True, out)
+
+
+def _next_dues(standing):
+    """Return those triples of what is due now that can be taken next."""
+    dues = [due for due in _dues(standing) if due[0] <= 0]
+    least = _least(dues)
+    return [due for due in dues if due[0] == least]
+
+
+def _can_end(standing, can_stop):
+    """Tell whether a look can end; can_stop tells whether what is due just now can be left."""
+    least = _least(_dues(standing))
+    return least is None or least > 0 or (least == 0 and can_stop)
 
 
 def _dues(standing):

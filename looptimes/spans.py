@@ -98,6 +98,11 @@ class Span:
         return span
 
 
+def is_number(thing):
+    """Tell whether it is an integer or a Span."""
+    return isinstance(thing, Span) or is_integer(thing)
+
+
 def floored(number):
     """Return the greatest integer that is not greater than the number."""
     over, under = _halves(number)

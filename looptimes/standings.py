@@ -6,7 +6,7 @@ are passed can have lists for tuples; those that are returned are made anew of t
 
 from looptimes.looks import look_times, takings
 from looptimes.scenes import later
-from looptimes.turns import doings
+from looptimes.turns import doings, work_times
 
 
 def start(program):
@@ -38,16 +38,9 @@ def _look_steps(program, standing):
 def _turn_steps(program, standing):
     number = standing[0][0]
     name = program.names()[number]
-    low, high = _work_times(program.plans[number], standing[2][number][0])
+    low, high = work_times(program, standing)
     out = []
     for what, after in doings(program, standing):
         for time in range(low, high + 1):
             out.append(((time, name, what), time, later(after, time)))
     return out
-
-
-def _work_times(plan, place):
-    """Return the least and the greatest time that the row takes."""
-    if place == plan.end or plan.flat[place][0] != "work":
-        return 0, 0
-    return plan.flat[place][1], plan.flat[place][2]

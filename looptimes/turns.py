@@ -22,6 +22,34 @@ def doings(program, standing):
     return [(place, scene.standing())]
 
 
+def work_times(program, standing):
+    """Return the least and the greatest time that the running task's row takes."""
+    row = _row_at(program, standing)
+    if row is None or row[0] != "work":
+        return 0, 0
+    return row[1], row[2]
+
+
+def word_at(program, standing):
+    """Return the word that is said by the next event, or None if it says none."""
+    if len(standing[0]) == 0:
+        return None
+    row = _row_at(program, standing)
+    if row is None or row[0] != "say":
+        return None
+    return row[1]
+
+
+def _row_at(program, standing):
+    """Return the row at the place of the running task, or None at END."""
+    number = standing[0][0]
+    plan = program.plans[number]
+    place = standing[2][number][0]
+    if place == plan.end:
+        return None
+    return plan.flat[place]
+
+
 def _ended(program, standing):
     scene = Scene(program, standing)
     scene.stop("ended")

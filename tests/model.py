@@ -110,13 +110,17 @@ class World:
         return self.rows_done() if self.turn else self.looks()
 
     def rows_done(self):
-        task = self.turn[0]
-        row = task.row() if task.path is not None else None
-        if row is not None and row[0] == "work":
-            return [self.done(time, None) for time in range(row[1], row[2] + 1)]
-        if row is not None and row[0] == "either":
-            return [self.done(0, branch) for branch in (0, 1)]
-        return [self.done(0, None)]
+        low, high = self.work_span()
+        found = []
+        for moment in range(low, high + 1):
+            found.extend(self.followers_at(moment))
+        return found
+
+    def word(self):
+        """Return the word that is said next, if it is."""
+        task = self.turn[0] if self.turn else None
+        row = task.row() if task and task.path is not None else ("end",)
+        return row[1] if row[0] == "say" else None
 
     def done(self, time, branch):
         world = self.copied()
@@ -179,20 +183,53 @@ class World:
         return sleeps + [(task.deadline, at, "within") for at, task in enumerate(self.tasks)
                          if task.deadline is not None and not task.missed]
 
-    def looks(self):
-        moments = {self.now} if self.ready else set()
-        if not self.ready and self.dues():
+    def look_spans(self):
+        """Return the pairs (first moment, last moment) between which the next look can be."""
+        if self.ready:
+            return [(self.now, self.now)]
+        spans = []
+        if self.dues():
             least = min(self.dues())[0]
             if least <= self.now:
-                moments.add(self.now)
+                spans.append((self.now, self.now))
             if least >= self.now:
-                moments.update(range(least, least + self.late + 1))
+                spans.append((least, least + self.late))
+        return spans
+
+    def looks(self):
+        moments = set()
+        for first, last in self.look_spans():
+            moments.update(range(first, last + 1))
         found = []
         for moment in sorted(moments):
-            world = self.copied()
-            world.now = moment
-            self.add_looks(world, found)
+            found.extend(self.looks_at(moment))
         return found
+
+    def looks_at(self, moment):
+        world = self.copied()
+        world.now = moment
+        found = []
+        self.add_looks(world, found)
+        return found
+
+    def work_span(self):
+        """Return the first and the last moment at which what the running task does can be done."""
+        task = self.turn[0]
+        row = task.row() if task.path is not None else ("end",)
+        return (self.now + row[1], self.now + row[2]) if row[0] == "work" else (self.now, self.now)
+
+    def followers_at(self, moment):
+        """Return the pairs (event, next world) with this moment, which can be a fraction."""
+        if not self.turn:
+            return self.looks_at(moment) if any(low <= moment <= high for low, high in self.look_spans()) else []
+        low, high = self.work_span()
+        if not low <= moment <= high:
+            return []
+        return [self.done(moment - self.now, branch) for branch in self.branches()]
+
+    def branches(self):
+        task = self.turn[0]
+        return [0, 1] if task.path is not None and task.row()[0] == "either" else [None]
 
     def add_looks(self, world, found):
         unfinished = [([], world)]

@@ -3,7 +3,7 @@
 import inspect
 import unittest
 
-from looptimes import errors, programs, spans, standings
+from looptimes import errors, programs, runs, spans, standings, times, wishes, words
 
 METHODS = {
     spans.Span: {
@@ -18,12 +18,27 @@ METHODS = {
         "row": "(self, name, place)", "with_row": "(self, name, place, row)", "with_late": "(self, late)",
         "text": "(self)", "of_text": "(text)",
     },
+    runs.Run: {
+        "__init__": "(self, program, events=())", "events": "(self)", "__len__": None, "__eq__": None,
+        "further": "(self, events)", "now": "(self)", "log": "(self)", "standing": "(self)",
+        "spent": "(self, weights)", "floored": "(self, shift=0)", "parts": "(self)",
+    },
 }
 FUNCTIONS = {
     spans.floored: "(number)",
     spans.plain: "(number)",
     standings.start: "(program)",
     standings.steps: "(program, standing)",
+    wishes.judge: "(program, wish)",
+    wishes.is_closed: "(program, wish, pairs)",
+    wishes.is_broken: "(wish, run)",
+    wishes.slowest: "(program, name, place, wish)",
+    wishes.latest: "(program, wish)",
+    times.most: "(program, weights, a, b)",
+    times.is_most: "(program, weights, a, b, number, heights)",
+    times.pace: "(program, weights)",
+    times.is_pace: "(program, weights, number, heights)",
+    words.alike: "(one, other)",
 }
 
 
@@ -36,7 +51,7 @@ class InterfaceTest(unittest.TestCase):
                     self.assertEqual(str(inspect.signature(getattr(owner, name))), signature)
 
     def test_static_methods(self):
-        for owner in METHODS:
+        for owner in (spans.Span, programs.Program):
             self.assertIsInstance(vars(owner)["of_text"], staticmethod)
 
     def test_functions(self):
@@ -49,6 +64,12 @@ class InterfaceTest(unittest.TestCase):
         self.assertEqual({spans.floored.__module__, spans.plain.__module__}, {"looptimes.spans"})
         self.assertEqual({standings.start.__module__, standings.steps.__module__}, {"looptimes.standings"})
         self.assertEqual(errors.LoopError.__module__, "looptimes.errors")
+        self.assertEqual(runs.Run.__module__, "looptimes.runs")
+        for module in (wishes, times, words):
+            found = [function for function in FUNCTIONS if function.__module__ == module.__name__]
+            self.assertEqual(len(found), {"wishes": 5, "times": 4, "words": 1}[module.__name__.split(".")[1]])
+            for function in found:
+                self.assertIs(getattr(module, function.__name__), function)
 
 
 if __name__ == "__main__":

@@ -7,17 +7,17 @@ from pathlib import Path
 
 PACKAGE = Path(__file__).resolve().parent.parent / "looptimes"
 FILES = sorted(PACKAGE.glob("*.py"))
-LIBRARY = {"math": {"gcd"}}
+LIBRARY = {"math": {"gcd", "lcm"}}
 BUILTINS = set("""len range enumerate zip min max sum abs sorted reversed int str bool list tuple dict set isinstance
     ord repr any all divmod ValueError TypeError NotImplemented""".split())
-METHODS = set("""append clear copy count endswith extend find get index insert items join keys pop partition remove
+METHODS = set("""append bit_length clear copy count endswith extend find get index insert items join keys pop partition remove
     removeprefix removesuffix replace reverse rfind setdefault split startswith strip update values __init__""".split())
 DOUBLE = set("""__init__ __eq__ __len__ __iter__ __getitem__ __contains__ __add__ __radd__ __sub__ __rsub__ __mul__
     __rmul__ __floordiv__ __rfloordiv__ __mod__ __rmod__ __neg__ __abs__ __lt__ __le__ __gt__ __ge__""".split())
 ALLOWED = set("""Module Expr Constant ImportFrom alias FunctionDef ClassDef arguments arg Assign AugAssign Return If For
     While Break Continue Raise Pass Name Attribute Call keyword Load Store BinOp UnaryOp BoolOp Compare IfExp And Or Not
-    Add Sub Mult FloorDiv Mod USub Eq NotEq Lt LtE Gt GtE Is IsNot In NotIn Tuple List Dict Subscript Slice Starred
-    ListComp DictComp comprehension JoinedStr FormattedValue""".split())
+    Add Sub Mult FloorDiv Mod LShift BitOr USub Eq NotEq Lt LtE Gt GtE Is IsNot In NotIn Tuple List Dict Subscript
+    Slice Starred ListComp DictComp comprehension JoinedStr FormattedValue""".split())
 BARRED = set("""type typing enum Enum Flag Generic Protocol ABC namedtuple dataclass overload abstractmethod register mro
     elements law version_info eval exec globals locals vars""".split())
 
