@@ -21,7 +21,7 @@ def look_times(program, standing):
 def takings(program, standing):
     """Return all that can happen at a look now, as pairs (list of what is taken, next standing)."""
     out = []
-    _take_on(program, standing, [], len(standing[1]) > 0, out)
+    _take_on(program, standing, [], out)
     return out
 
 
@@ -33,20 +33,19 @@ def look_with(program, standing, items):
         if len(numbers) == 0:
             return None
         standing = _with_taken(program, standing, numbers[0], what)
-    # Once something has been taken, the rest can be left; otherwise only if tasks were ready.
-    if not _can_end(standing, len(items) > 0 or len(standing[1]) > 0):
+    if not _can_end(standing):
         return None
     return _begun(program, standing)
 
 
-def _take_on(program, standing, taken, can_stop, out):
+def _take_on(program, standing, taken, out):
     """Add all ways to go on with a look at which something has been taken."""
-    if _can_end(standing, can_stop):
+    if _can_end(standing):
         out.append((taken, _begun(program, standing)))
     names = program.names()
     for _, number, what in _next_dues(standing):
         after = _with_taken(program, standing, number, what)
-        _take_on(program, after, [*taken, (names[number], what)], True, out)
+        _take_on(program, after, [*taken, (names[number], what)], out)
 
 
 def _next_dues(standing):
@@ -56,10 +55,11 @@ def _next_dues(standing):
     return [due for due in dues if due[0] == least]
 
 
-def _can_end(standing, can_stop):
-    """Tell whether a look can end; can_stop tells whether what is due just now can be left."""
+def _can_end(standing):
+    """Tell whether a look can end."""
     least = _least(_dues(standing))
-    return least is None or least > 0 or (least == 0 and can_stop)
+    # Tasks are ready if some were when the look began, or if something has been taken.
+    return least is None or least > 0 or (least == 0 and len(standing[1]) > 0)
 
 
 def _dues(standing):

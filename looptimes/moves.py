@@ -66,14 +66,12 @@ def _looked(program, standing, time, who, what):
 
 
 def _items(what):
-    """Return what is taken as a tuple of pairs of strings, or None if it is not such a list."""
+    """Return what is taken as a tuple of pairs of any objects, or None if it is not such a list."""
     if not is_list(what):
         return None
     out = []
     for item in what:
         if not is_list(item) or len(item) != 2:
-            return None
-        if not isinstance(item[0], str) or not isinstance(item[1], str):
             return None
         out.append(tuple(item))
     return tuple(out)

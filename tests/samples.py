@@ -22,8 +22,10 @@ def any_objects():
     """Return objects of all kinds that can be passed."""
     endless = []
     endless.extend([endless, endless, endless])
+    endless_pair = []
+    endless_pair.extend([endless_pair, endless_pair])
     return [None, True, False, 0, 1, -1, 10 ** 39, "", "a", "abc", "runs", [], (), {}, {"a": 1}, [[]], [None, None, None],
-            ["a", "b"], ("a", "b", "c"), endless, Span(1, 2), Span(3), BEAT, Run(BEAT), [{}], [Span(1, 2)]]
+            ["a", "b"], ("a", "b", "c"), endless, endless_pair, Span(1, 2), Span(3), BEAT, Run(BEAT), [{}], [Span(1, 2)]]
 
 
 def fraction(number):

@@ -400,8 +400,9 @@ class BrokenTest(WishesTest):
 
     def test_any_number_of_standings(self):
         program = Program([(name, [("ever", [("work", 0, 99), ("sleep", 99)])]) for name in "abc"], late=99)
-        run = Run(program, [(0, None, []), (Span(199, 2), "a", 1)][:1])
-        self.assertIs(is_broken(("never", "x"), run), False)
+        run = Run(program, [(0, None, []), (0, "a", 0), (Span(197, 2), "a", 1)])
+        for wish in GOOD_WISHES:
+            self.assertIs(is_broken(wish, run), False)
 
     def test_random_runs(self):
         counts = {}
