@@ -24,8 +24,9 @@ def any_objects():
     endless.extend([endless, endless, endless])
     endless_pair = []
     endless_pair.extend([endless_pair, endless_pair])
-    return [None, True, False, 0, 1, -1, 10 ** 39, "", "a", "abc", "runs", [], (), {}, {"a": 1}, [[]], [None, None, None],
-            ["a", "b"], ("a", "b", "c"), endless, endless_pair, Span(1, 2), Span(3), BEAT, Run(BEAT), [{}], [Span(1, 2)]]
+    return [None, True, False, 0, 1, -1, 10 ** 39, "", "a", "abc", "runs", [], (), {}, {"a": 1}, [[]],
+            [None, None, None], ["a", "b"], ("a", "b", "c"), endless, endless_pair, Span(1, 2), Span(3), BEAT,
+            Run(BEAT), [{}], [Span(1, 2)]]
 
 
 def fraction(number):
@@ -119,7 +120,7 @@ def random_moment(dice, low, high, whole):
 
 
 def random_run(dice, program, most, whole=False):
-    """Return the events of a run, made by the second account of the loop, and the worlds ahead of each and at the end."""
+    """Return the events of a run, and the worlds ahead of each of them and at the end."""
     worlds = [World(program)]
     events = []
     while len(events) < most:

@@ -10,8 +10,8 @@ FILES = sorted(PACKAGE.glob("*.py"))
 LIBRARY = {"math": {"gcd", "lcm"}}
 BUILTINS = set("""len range enumerate zip min max sum abs sorted reversed int str bool list tuple dict set isinstance
     ord repr any all divmod ValueError TypeError NotImplemented""".split())
-METHODS = set("""append bit_length clear copy count endswith extend find get index insert items join keys pop partition remove
-    removeprefix removesuffix replace reverse rfind setdefault split startswith strip update values __init__""".split())
+METHODS = set("""append bit_length clear copy count endswith extend find get index insert items join keys pop partition
+    remove removeprefix removesuffix replace reverse rfind setdefault split startswith strip update values __init__""".split())
 DOUBLE = set("""__init__ __eq__ __len__ __iter__ __getitem__ __contains__ __add__ __radd__ __sub__ __rsub__ __mul__
     __rmul__ __floordiv__ __rfloordiv__ __mod__ __rmod__ __neg__ __abs__ __lt__ __le__ __gt__ __ge__""".split())
 ALLOWED = set("""Module Expr Constant ImportFrom alias FunctionDef ClassDef arguments arg Assign AugAssign Return If For

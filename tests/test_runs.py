@@ -132,7 +132,8 @@ class RefusedTest(RunsTest):
         for moment in (1, Span(1), Span(4, 3), 2, Span(3), 3):
             Run(program, [(0, None, []), (moment, "a", 0), (moment, "a", 1)])
             self.refuse(program, [(0, None, []), (moment, "a", 0), (moment + Span(1, 99), "a", 1)], 2)
-        for moment in (-1, 0, Span(98, 99), Span(10 ** 40 - 1, 10 ** 40), Span(301, 100), 4, False, True, "1", None, [2]):
+        for moment in (-1, 0, Span(98, 99), Span(10 ** 40 - 1, 10 ** 40), Span(301, 100), 4, False, True, "1", None,
+                       [2]):
             self.refuse(program, [(0, None, []), (moment, "a", 0)], 1)
 
     def test_bounds_of_a_look(self):
@@ -170,9 +171,11 @@ class RefusedTest(RunsTest):
         moment = RICH_RUN[7][0]
         sleep, within = ("a", "sleep"), ("b", "within")
         for what in ([], [sleep], [within], [sleep, sleep], [within, sleep], [sleep, within, sleep],
-                     [("a", "within"), within], [sleep, ("b", "sleep")], [("b", "sleep"), within], [sleep, ("c", "within")],
+                     [("a", "within"), within], [sleep, ("b", "sleep")], [("b", "sleep"), within],
+                     [sleep, ("c", "within")],
                      [("sleep", "a"), within], [sleep, ("b", "within", 0)], [sleep, ("b",)], [sleep, "bw"], sleep,
-                     {sleep: within}, None, "", [sleep, (None, "within")], [sleep, ("b", None)], [sleep, (1, "within")]):
+                     {sleep: within}, None, "", [sleep, (None, "within")], [sleep, ("b", None)],
+                     [sleep, (1, "within")]):
             self.refuse(RICH, RICH_RUN[:7] + [(moment, None, what)], 7)
         for what in ([["a", "sleep"], within], (sleep, within), (["a", "sleep"], ["b", "within"])):
             self.same(Run(RICH, RICH_RUN[:7] + [(moment, None, what)]).events(), RICH_RUN[:8])
@@ -272,7 +275,8 @@ class ToldTest(RunsTest):
     def test_spent(self):
         run = Run(RICH, RICH_RUN)
         told_times = {
-            ("a", "runs"): Span(3, 2), ("a", "sleeps"): Span(19, 6), ("b", "ready"): Span(3, 2), ("b", "takes"): Span(19, 6)}
+            ("a", "runs"): Span(3, 2), ("a", "sleeps"): Span(19, 6),
+            ("b", "ready"): Span(3, 2), ("b", "takes"): Span(19, 6)}
         for name in ("a", "b"):
             for word in STATE_WORDS:
                 time = told_times.get((name, word), 0)
@@ -339,8 +343,8 @@ class FlooredTest(RunsTest):
 
     def test_floored_refuses(self):
         run = Run(RICH, RICH_RUN)
-        for shift in [1, -1, Span(1), Span(-1, 10 ** 39), Span(100, 99), 2, True, False, None, "0", "", [], [0], (), {}, run,
-                      RICH]:
+        for shift in [1, -1, Span(1), Span(-1, 10 ** 39), Span(100, 99), 2, True, False, None, "0", "", [], [0], (), {},
+                      run, RICH]:
             with self.assertRaises(BadShift) as caught:
                 run.floored(shift)
             self.assertIs(caught.exception.shift, shift)

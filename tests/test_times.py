@@ -61,11 +61,13 @@ class Map:
             if standing not in inside:
                 inside.add(standing)
                 todo.extend(after for event, _, after in self.steps[standing] if self.word(event) != b)
-        leading = {standing for standing in inside if any(self.word(event) == b for event, _, _ in self.steps[standing])}
+        leading = {standing for standing in inside
+                   if any(self.word(event) == b for event, _, _ in self.steps[standing])}
         size_ahead = -1
         while size_ahead < len(leading):
             size_ahead = len(leading)
-            leading |= {standing for standing in inside if any(after in leading for _, _, after in self.steps[standing])}
+            leading |= {standing for standing in inside
+                        if any(after in leading for _, _, after in self.steps[standing])}
         return leading
 
     def shows_most(self, a, b, number, told):
@@ -277,7 +279,8 @@ class MostTest(TimesTest):
         self.assertEqual(self.check_most(behind, ALL_TIME, "x", "y")[1], 0)
         apart = Program([("a", [("say", "x"), ("either", [("say", "y")], [("ever", [("sleep", 1)])])])])
         self.assertEqual(self.check_most(apart, ALL_TIME, "x", "y")[1], 0)
-        ahead = Program([("a", [("either", [("ever", [("sleep", 1), ("either", [("say", "x")], [])])], [("say", "y")])])])
+        rows = [("either", [("ever", [("sleep", 1), ("either", [("say", "x")], [])])], [("say", "y")])]
+        ahead = Program([("a", rows)])
         self.assertEqual(self.check_most(ahead, ALL_TIME, "x", "y"), ("none",))
         self.assertEqual(self.check_most(ahead, ALL_TIME, None, "x")[0], "grows")
 
@@ -352,7 +355,8 @@ class IsMostTest(TimesTest):
 
     def test_numbers(self):
         _, number, _, _, heights = most(BEAT, ALL_TIME, "x", "x")
-        for other, wanted in ((number, True), (number + 1, True), (10 ** 39, True), (number - 1, False), (-number, False)):
+        for other, wanted in ((number, True), (number + 1, True), (10 ** 39, True), (number - 1, False),
+                              (-number, False)):
             self.assertIs(is_most(BEAT, ALL_TIME, "x", "x", other, heights), wanted)
         for thing in any_objects() + [Span(number), Span(13, 2), str(number), [number]]:
             wanted = thing == 10 ** 39 and isinstance(thing, int)
@@ -386,14 +390,16 @@ class PaceTest(TimesTest):
         self.assertEqual(shown(self.check_pace(BEAT, [("a", "takes", 99)])[1]), "0")
 
     def test_ends(self):
-        for rows in ([], [("work", 1, 9)], [("ever", [("pass",)])], [("ever", [("say", "x"), ("work", 0, 0), ("pass",)])],
-                     [("sleep", 3), ("take", "q")], [("work", 3, 4), ("ever", [("take", "q"), ("give", "q"), ("pass",)])]):
+        for rows in ([], [("work", 1, 9)], [("ever", [("pass",)])], [("sleep", 3), ("take", "q")],
+                     [("ever", [("say", "x"), ("work", 0, 0), ("pass",)])],
+                     [("work", 3, 4), ("ever", [("take", "q"), ("give", "q"), ("pass",)])]):
             program = Program([("a", rows)], [("q", 0, 1)])
             self.assertEqual(self.check_pace(program, ALL_TIME), ("ends",), rows)
 
     def test_time_that_can_go_on(self):
         self.assertEqual(self.check_pace(Program([("a", [("ever", [("work", 0, 1), ("pass",)])])]), ALL_TIME)[1], 1)
-        self.assertEqual(shown(self.check_pace(Program([("a", [("ever", [("sleep", 1)])])], late=99), ALL_TIME)[1]), "1")
+        program = Program([("a", [("ever", [("sleep", 1)])])], late=99)
+        self.assertEqual(shown(self.check_pace(program, ALL_TIME)[1]), "1")
         program = Program([("a", [("either", [("ever", [("sleep", 2), ("work", 1, 1)])], [])])])
         self.assertEqual(shown(self.check_pace(program, [("a", "runs", 1)])[1]), "Span 1/3")
 

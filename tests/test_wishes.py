@@ -227,8 +227,8 @@ class JudgeTest(WishesTest):
             self.assertIsInstance(pair, tuple)
             self.assertIsInstance(pair[0], tuple)
             self.assertIsInstance(pair[1], int)
-        for wish, first in (("never", "y"), 0), (("free",), 0), (("first", "y", "z"), 0), (("between", "y", "z", "y"), 0), \
-                           (("soon", "y", "y", 5), -1), (("late", "y", "y", 5), 0):
+        for wish, first in ((("never", "y"), 0), (("free",), 0), (("first", "y", "z"), 0),
+                            (("between", "y", "z", "y"), 0), (("soon", "y", "y", 5), -1), (("late", "y", "y", 5), 0)):
             self.assertEqual(self.holds(BEAT, wish), [(standing, first) for standing, _ in self.holds(BEAT, ("free",))])
 
     def test_wishes_as_lists_and_equal_answers(self):
@@ -277,7 +277,8 @@ class RefusalsTest(WishesTest):
     def test_bad_wishes(self):
         run = Run(BEAT)
         for wish in WRONG_WISHES + [thing for thing in any_objects() if is_wrong_wish(thing)]:
-            for call in (lambda: judge(BEAT, wish), lambda: is_closed(BEAT, wish, []), lambda: is_closed(BEAT, wish, None),
+            for call in (lambda: judge(BEAT, wish),
+                         lambda: is_closed(BEAT, wish, []), lambda: is_closed(BEAT, wish, None),
                          lambda: is_broken(wish, run), lambda: is_broken(wish, None), lambda: latest(BEAT, wish),
                          lambda: slowest(BEAT, "a", 1, wish)):
                 self.assertRaises(BadWish, call)
